@@ -1,0 +1,1 @@
+"""Talkmeans: talks after which all agree."""

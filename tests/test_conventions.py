@@ -1,0 +1,157 @@
+"""Points [1], [2] and [3]: what holds for every module."""
+
+import unittest
+
+from samples import FIVE_TEXT, PAIRS_TEXT, deep, five, odd_values, pairs, raising
+from talkmeans.books import Book
+from talkmeans.errors import InvalidBook, InvalidLot, InvalidNumbers, InvalidRow, InvalidTalk, NoTalk, TalkError
+from talkmeans.talks import Talk
+from talkmeans.ways import apart, done, is_ring, is_row, led
+
+
+class Kinds(unittest.TestCase):
+    def test_bools_are_no_integers(self):
+        book = pairs()
+        with raising(self, InvalidTalk, at=0):
+            Talk([[True]])
+        with raising(self, InvalidNumbers, at=1):
+            book["left"].led([0, False, 0])
+        with raising(self, InvalidNumbers, at=0):
+            book["left"].led([(1, True), 0, 0])
+        with raising(self, InvalidLot):
+            book["left"].closes([False])
+        with raising(self, InvalidLot):
+            book["left"].firm([True])
+        with self.assertRaises(NoTalk) as caught:
+            book[True]
+        self.assertIs(caught.exception.name, True)
+
+    def test_names(self):
+        talk = Talk([[1]])
+        for name in ("a", "z", "abcdef", "mnopqr"):
+            self.assertEqual(Book([(name, talk)]).names, (name,))
+        for name in ("", "abcdefg", "A", "aB", "a_b", "a-b", "a1", "a ", " a", "\n", "\u00e9", "\u00df", "a\u0131"):
+            with raising(self, InvalidBook, word="talks"):
+                Book([(name, talk)])
+
+    def test_values(self):
+        talk = Talk([[1]])
+        told_as = [(0, (0, 1)), (-3, (-3, 1)), ((0, 5), (0, 1)), ((6, 4), (3, 2)), ((-6, 4), (-3, 2)), ((7, 1), (7, 1))]
+        for value, told in told_as:
+            self.assertEqual(talk.led([value]), (told,))
+        for value in [(1, 0), (1, -1), (0, 0), (1,), (1, 2, 3), [1, 2], "1/2", None, ((1, 2), 1), 1.0]:
+            with raising(self, InvalidNumbers, at=0):
+                talk.led([value])
+
+    def test_lots_are_ascending_tuples(self):
+        for talk in five().talks[0][1], pairs()["left"]:
+            for i in range(len(talk)):
+                lot = talk.heeds(i)
+                self.assertIs(type(lot), tuple)
+                self.assertEqual(list(lot), sorted(lot))
+
+    def test_values_nested_eight_deep(self):
+        value = deep(8)
+        with raising(self, InvalidTalk, at=0):
+            Talk(value)
+        with raising(self, InvalidBook, word="talks"):
+            Book(value)
+        with raising(self, InvalidBook, word="steps"):
+            Book([("a", Talk([[1]]))], value)
+        with raising(self, InvalidRow, at=0):
+            done(pairs(), value)
+        with raising(self, InvalidLot):
+            pairs().firm(value)
+        with self.assertRaises(NoTalk) as caught:
+            pairs()[value]
+        self.assertIs(caught.exception.name, value)
+        self.assertIs(is_row(pairs(), value), False)
+
+
+class NothingChanges(unittest.TestCase):
+    def test_book_and_talks_stay(self):
+        book = pairs()
+        talk = book["left"]
+        calls = [
+            talk.led, talk.closes, talk.firm, book.firm, book.behind, book.without,
+            lambda value: talk.led([value, 1, 2]),
+            lambda value: book[value],
+            lambda value: book.with_step(value, "left"),
+            lambda value: book.with_step("left", value),
+            lambda value: book.heeding(value, 0, 2),
+            lambda value: is_row(book, value),
+            lambda value: is_ring(book, value),
+            lambda value: done(book, value),
+            lambda value: apart(book, value),
+            lambda value: led(book, value, [1, 2, 3]),
+            lambda value: led(book, ["left"], value),
+            lambda value: Book(book.talks, value),
+            lambda value: Book([("a", talk), value]),
+        ]
+        for value in odd_values():
+            for call in calls:
+                try:
+                    call(value)
+                except (TalkError, NoTalk):
+                    pass
+        self.assertEqual(str(book), PAIRS_TEXT)
+        self.assertEqual(talk.rows, ((1, 1, 0), (1, 1, 0), (0, 0, 1)))
+        self.assertEqual(list(vars(talk)), ["rows"])
+        self.assertEqual(list(vars(book)), ["talks", "steps"])
+
+    def test_same_call_same_result(self):
+        book, row = five(), ["a", "b", "c"]
+
+        def results():
+            behind = led(book, row, [1, 2, 3, 4, 5])
+            return [done(book, row), behind, apart(book, row), str(book), book.firm([1]), book.behind("c")]
+
+        first = results()
+        book.without("a").with_step("b", "b").heeding("b", 0, 4)
+        self.assertEqual(results(), first)
+        self.assertEqual(str(book), FIVE_TEXT)
+
+    def test_arguments_stay(self):
+        row, numbers, lot = ["left", "right"], [1, (4, 2), 3], [2, 0]
+        led(pairs(), row, numbers)
+        pairs().firm(lot)
+        pairs()["left"].closes(lot)
+        self.assertEqual((row, numbers, lot), (["left", "right"], [1, (4, 2), 3], [2, 0]))
+
+
+class Limits(unittest.TestCase):
+    def test_full_size(self):
+        names = ["abcdef", "b", "c", "d", "e"]
+        talk = Talk([[9, 8, 7, 6, 5]] * 5)
+        steps = [(p, q) for p in names for q in names]
+        book = Book([(name, talk) for name in names], steps)
+        self.assertEqual(len(book.steps), 25)
+        self.assertEqual(Book.read(str(book)), book)
+        row = (names * 8)[:40]
+        self.assertIs(is_ring(book, row), True)
+        top, bottom = 999999999, 999999998
+        self.assertEqual(led(book, row, [(top, bottom)] * 5), (((top, bottom),) * 5,) * 40)
+
+    def test_somewhat_beyond_the_limits(self):
+        people = 7
+        talk = Talk([[12 + i + j for j in range(people)] for i in range(people)])
+        book = Book([(name, talk) for name in ("a", "b", "c", "d", "e", "f", "g")], [("a", "a")])
+        row = ["a"] * 50
+        self.assertEqual(len(led(book, row, [10**12] * people)), 50)
+        self.assertEqual(apart(book, row), ())
+        self.assertEqual(Book.read(str(book)), book)
+
+    def test_what_was_returned_may_be_passed_on(self):
+        book = five()
+        talk = done(book, ["a", "b", "c", "c"] * 10)
+        self.assertEqual(Talk(talk.rows), talk)
+        self.assertEqual(Book(book.talks, book.steps), book)
+        large = Book([("a", talk), ("b", talk.firm(talk.heeds(0)))], [("a", "b"), ("b", "a")])
+        values = led(large, ["a", "b", "a"], [1, 2, 3, 4, 5])[-1]
+        self.assertEqual(led(large, ["a"], values)[0], talk.led(values))
+        self.assertEqual(talk >> talk, done(large.with_step("a", "a"), ["a", "a"]))
+        self.assertEqual(str(large).split("\n")[0], f"talk a {talk}")
+
+
+if __name__ == "__main__":
+    unittest.main()
