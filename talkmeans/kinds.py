@@ -84,9 +84,19 @@ def checked_numbers(numbers, people):
     return tuple([as_pair(value) for value in numbers])
 
 
+def is_less(first, second):
+    """Whether the first one of two pairs stands for less than the second one."""
+    return first[0] * second[1] < second[0] * first[1]
+
+
+def even_tops(pairs):
+    """The tops of pairs if all get one bottom, and this bottom."""
+    bottom = common_multiple([pair[1] for pair in pairs])
+    return ([pair[0] * (bottom // pair[1]) for pair in pairs], bottom)
+
+
 def mean(weights, pairs):
     """The mean of pairs, which count by these weights."""
-    bottom = common_multiple([pair[1] for pair in pairs])
-    tops = [pair[0] * (bottom // pair[1]) for pair in pairs]
+    tops, bottom = even_tops(pairs)
     total = sum([weight * top for weight, top in zip(weights, tops)])
     return lowest(total, bottom * sum(weights))

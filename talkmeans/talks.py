@@ -96,10 +96,15 @@ def own_row(person, people):
 
 def rows_behind(first, then):
     """Rows of the talk that does what the rows first and then the rows then do."""
-    # All rows of the first talk get one sum, so that no fractions are needed.
-    total = common_multiple([sum(row) for row in first])
-    even = [[weight * (total // sum(row)) for weight in row] for row in first]
+    even = even_rows(first)
     return [mixed_row(weights, even) for weights in then]
+
+
+def even_rows(rows):
+    """The rows, each times a number, so that all have one sum."""
+    # Weights with one sum are to each other as the shares, so that no fractions are needed.
+    total = common_multiple([sum(row) for row in rows])
+    return [[weight * (total // sum(row)) for weight in row] for row in rows]
 
 
 def mixed_row(weights, rows):

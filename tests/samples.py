@@ -2,6 +2,7 @@
 
 import contextlib
 import itertools
+import random
 from fractions import Fraction
 
 from talkmeans.books import Book
@@ -28,6 +29,60 @@ def pairs():
 
 def five():
     return Book.read(FIVE_TEXT)
+
+
+def free():
+    return pairs().with_step("left", "left")
+
+
+def led_by():
+    return Book.read("talk a 1 0, 1 1\nbehind a a")
+
+
+def alone():
+    """One person."""
+    return Book.read("talk a 1\ntalk b 1\nbehind a b\nbehind b a\nbehind b b")
+
+
+def nowhere():
+    """A book whose steps lead nowhere: no row of more than two talks."""
+    return Book.read("talk a 1 0 0, 1 1 0, 0 0 1\ntalk b 1 0 0, 0 1 1, 0 0 1\nbehind b a")
+
+
+def firm():
+    """All are firm in all talks, and all talks can go on."""
+    return five().firm([0, 1, 2, 3, 4])
+
+
+def full(people):
+    """Five talks with weights up to 9, each of which can come behind each."""
+    names = ("abcdef", "b", "c", "d", "e")
+    many = range(people)
+    talks = [Talk([[9 if i == j else (3 * i + 5 * j + 7 * k) % 10 for j in many] for i in many]) for k in range(5)]
+    return Book(list(zip(names, talks)), [(p, q) for p in names for q in names])
+
+
+def small_books(many, seed):
+    """Books of up to four people and three talks in which few heed each other."""
+    rolls = random.Random(seed)
+    books = []
+    while len(books) < many:
+        people, talks = rolls.choice([1, 2, 3, 3, 3, 4]), rolls.choice([1, 2, 2, 3, 3])
+        heeding, again, then = rolls.choice([0.2, 0.4]), rolls.choice([0.1, 0.5]), rolls.choice([0.3, 0.6])
+        named = []
+        for name in ("c", "a", "b")[:talks]:
+            rows = [[rolls.randint(1, 3) if i == j or rolls.random() < heeding else 0 for j in range(people)]
+                    for i in range(people)]
+            named.append((name, Talk(rows)))
+        names = [name for name, _ in named]
+        steps = [(p, q) for p in names for q in names if rolls.random() < (again if p == q else then)]
+        books.append(Book(named, steps))
+    return books
+
+
+def told_books():
+    """The books of the document and those at the edges."""
+    return [pairs(), free(), led_by(), alone(), nowhere(), firm(), five(), Book.read("talk a 1")]
 
 
 def deep(levels):
@@ -61,6 +116,14 @@ def small_talks():
     return talks + [Talk.read(text) for text in texts]
 
 
+def rows_of(book, most):
+    """All rows of at most so many talks, shorter ones first."""
+    layers = [[()], [(name,) for name in book.names]]
+    while len(layers) <= most:
+        layers.append([row + (then,) for row in layers[-1] for first, then in book.steps if first == row[-1]])
+    return [row for layer in layers[:most + 1] for row in layer]
+
+
 def shares(talk):
     """The shares of a talk as fractions, told by [5]."""
     return [[Fraction(weight, sum(row)) for weight in row] for row in talk.rows]
@@ -89,3 +152,29 @@ def raising(case, error, **kept):
     case.assertEqual(vars(caught.exception), kept)
     for name, value in kept.items():
         case.assertIs(type(getattr(caught.exception, name)), type(value))
+
+
+def snapshot(thing):
+    """All that a thing holds, so that it can be seen whether it changes."""
+    if isinstance(thing, (Book, Talk)):
+        return (type(thing).__name__, snapshot(vars(thing)))
+    if isinstance(thing, (list, tuple)):
+        return (type(thing).__name__, [snapshot(part) for part in thing])
+    if isinstance(thing, dict):
+        return ("dict", [(key, snapshot(part)) for key, part in thing.items()])
+    return (type(thing).__name__, thing)
+
+
+@contextlib.contextmanager
+def unchanged(case, *things):
+    """The rows inside change none of these things."""
+    ahead = [snapshot(thing) for thing in things]
+    yield
+    case.assertEqual([snapshot(thing) for thing in things], ahead)
+
+
+def is_plain(value):
+    """Whether this is made of nothing but integers, strings and tuples."""
+    if type(value) is tuple:
+        return all(is_plain(part) for part in value)
+    return type(value) in (int, str)

@@ -2,9 +2,13 @@
 
 import unittest
 
-from samples import FIVE_TEXT, PAIRS_TEXT, deep, five, odd_values, pairs, raising
+from samples import FIVE_TEXT, PAIRS_TEXT, deep, five, full, odd_values, pairs, raising, unchanged
 from talkmeans.books import Book
+from talkmeans.deciding import agree, rings_of, split, talks_to_meet
+from talkmeans.ends import can_count, end, how_counts, least_lots, settled, weights
 from talkmeans.errors import InvalidBook, InvalidLot, InvalidNumbers, InvalidRow, InvalidTalk, NoTalk, TalkError
+from talkmeans.papers import paper, paper_holds
+from talkmeans.shrinking import factor, slow_row, slowest, spread
 from talkmeans.talks import Talk
 from talkmeans.ways import apart, done, is_ring, is_row, led
 
@@ -66,6 +70,17 @@ class Kinds(unittest.TestCase):
             pairs()[value]
         self.assertIs(caught.exception.name, value)
         self.assertIs(is_row(pairs(), value), False)
+        self.assertIs(paper_holds(pairs(), value), False)
+        with raising(self, InvalidNumbers, at=0):
+            end(pairs()["left"], value)
+
+    def test_returned_values_are_in_lowest_terms(self):
+        talk = Talk([[2, 2], [4, 4]])
+        self.assertEqual(weights(talk), ((1, 2), (1, 2)))
+        self.assertEqual(end(talk, [(2, 4), (6, 4)]), (1, 1))
+        self.assertEqual(spread([(2, 4), (9, 6)]), (1, 1))
+        self.assertEqual(spread([(4, 8)]), (0, 1))
+        self.assertEqual(factor(Talk([[6, 2], [2, 2]])), (1, 4))
 
 
 class NothingChanges(unittest.TestCase):
@@ -85,15 +100,20 @@ class NothingChanges(unittest.TestCase):
             lambda value: apart(book, value),
             lambda value: led(book, value, [1, 2, 3]),
             lambda value: led(book, ["left"], value),
+            lambda value: end(talk, value),
+            lambda value: end(talk, [0, value, 2]),
+            lambda value: paper_holds(book, value),
+            lambda value: paper_holds(book, (value,)),
             lambda value: Book(book.talks, value),
             lambda value: Book([("a", talk), value]),
         ]
         for value in odd_values():
             for call in calls:
-                try:
-                    call(value)
-                except (TalkError, NoTalk):
-                    pass
+                with unchanged(self, value):
+                    try:
+                        call(value)
+                    except (TalkError, NoTalk):
+                        pass
         self.assertEqual(str(book), PAIRS_TEXT)
         self.assertEqual(talk.rows, ((1, 1, 0), (1, 1, 0), (0, 0, 1)))
         self.assertEqual(list(vars(talk)), ["rows"])
@@ -104,7 +124,12 @@ class NothingChanges(unittest.TestCase):
 
         def results():
             behind = led(book, row, [1, 2, 3, 4, 5])
-            return [done(book, row), behind, apart(book, row), str(book), book.firm([1]), book.behind("c")]
+            decided = [agree(book), split(book), talks_to_meet(book), rings_of(book), paper(book)]
+            shrunk = [factor(book["a"]), slowest(book, 3), slow_row(book, 3), spread(behind[-1])]
+            ended = [weights(book["b"]), end(book["b"], behind[0]), least_lots(book["c"]), can_count(book)]
+            ended += [settled(book), how_counts(book, 3), paper_holds(book, ())]
+            rows = [done(book, row), behind, apart(book, row), str(book), book.firm([1]), book.behind("c")]
+            return rows + decided + shrunk + ended
 
         first = results()
         book.without("a").with_step("b", "b").heeding("b", 0, 4)
@@ -131,6 +156,11 @@ class Limits(unittest.TestCase):
         self.assertIs(is_ring(book, row), True)
         top, bottom = 999999999, 999999998
         self.assertEqual(led(book, row, [(top, bottom)] * 5), (((top, bottom),) * 5,) * 40)
+        self.assertEqual(end(talk, [(top, bottom)] * 5), (top, bottom))
+        self.assertEqual((agree(book), talks_to_meet(book), paper(book)), (True, 1, ()))
+        self.assertEqual((slowest(book, 4), len(slow_row(book, 4)), len(rings_of(book))), ((0, 1), 4, 31))
+        self.assertEqual(settled(book), weights(talk))
+        self.assertEqual((can_count(book), how_counts(book, 4)), ((0, 1, 2, 3, 4), "always"))
 
     def test_somewhat_beyond_the_limits(self):
         people = 7
@@ -140,6 +170,17 @@ class Limits(unittest.TestCase):
         self.assertEqual(len(led(book, row, [10**12] * people)), 50)
         self.assertEqual(apart(book, row), ())
         self.assertEqual(Book.read(str(book)), book)
+        self.assertIs(agree(book), True)
+        self.assertEqual(talks_to_meet(book.without("b")), 1)
+        firm = book.firm(list(range(people)))
+        self.assertEqual((split(firm)[0], talks_to_meet(firm), paper(firm)), (("a",), None, None))
+        self.assertEqual(least_lots(firm["g"]), tuple((i,) for i in range(people)))
+        self.assertEqual((rings_of(book), can_count(book)), ((("a",),), tuple(range(people))))
+        self.assertEqual(settled(book), weights(talk))
+        self.assertEqual(slowest(book, 6), factor(done(book, ["a"] * 6)))
+        harmless = Book(firm.talks, [("a", "b"), ("a", "c"), ("b", "c"), ("f", "g")])
+        self.assertGreater(len(paper(harmless)), 600)
+        self.assertIs(paper_holds(harmless, paper(harmless)), True)
 
     def test_what_was_returned_may_be_passed_on(self):
         book = five()
@@ -151,6 +192,10 @@ class Limits(unittest.TestCase):
         self.assertEqual(led(large, ["a"], values)[0], talk.led(values))
         self.assertEqual(talk >> talk, done(large.with_step("a", "a"), ["a", "a"]))
         self.assertEqual(str(large).split("\n")[0], f"talk a {talk}")
+        self.assertEqual(end(talk, values), end(talk, talk.led(values)))
+        self.assertEqual((settled(large), how_counts(large, 0)), (weights(talk), "always"))
+        self.assertEqual(slowest(large, 2), factor(done(large, slow_row(large, 2))))
+        self.assertEqual(spread(weights(done(full(5), ["b"] * 40))), spread(weights(full(5)["b"])))
 
 
 if __name__ == "__main__":

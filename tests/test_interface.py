@@ -7,7 +7,7 @@ import pathlib
 import unittest
 import warnings
 
-from talkmeans import books, errors, talks, ways
+from talkmeans import books, deciding, ends, errors, papers, shrinking, talks, ways
 
 ROOT = pathlib.Path(__file__).resolve().parent.parent
 FILES = sorted((ROOT / "talkmeans").rglob("*.py"))
@@ -19,6 +19,13 @@ FUNCTIONS = {
         "done": ["book", "row"],
         "led": ["book", "row", "numbers"],
         "apart": ["book", "row"],
+    },
+    deciding: {"agree": ["book"], "split": ["book"], "talks_to_meet": ["book"], "rings_of": ["book"]},
+    papers: {"paper": ["book"], "paper_holds": ["book", "value"]},
+    shrinking: {"factor": ["talk"], "slowest": ["book", "k"], "slow_row": ["book", "k"], "spread": ["numbers"]},
+    ends: {
+        "weights": ["talk"], "end": ["talk", "numbers"], "least_lots": ["talk"],
+        "can_count": ["book"], "settled": ["book"], "how_counts": ["book", "i"],
     },
 }
 CLASSES = {

@@ -3,21 +3,11 @@
 import itertools
 import unittest
 
-from samples import fraction, five, no_sequences, odd_values, pair, pairs, raising, shares, times
+from samples import fraction, five, no_sequences, odd_values, pair, pairs, raising, rows_of, shares, times
 from talkmeans.books import Book
 from talkmeans.errors import InvalidNumbers, InvalidRow
 from talkmeans.talks import Talk
 from talkmeans.ways import apart, done, is_ring, is_row, led
-
-
-def rows_of(book, most):
-    """All rows of at most so many talks, found by trying each tuple of names."""
-    found = []
-    for k in range(most + 1):
-        for names in itertools.product(book.names, repeat=k):
-            if all(step in book.steps for step in zip(names, names[1:])):
-                found.append(names)
-    return found
 
 
 class Rows(unittest.TestCase):
