@@ -1,6 +1,6 @@
 """Whether all people come together in all endless rows of talks from a book."""
 
-from talkmeans.lots import lots_apart, parts_of
+from talkmeans.lots import closed_lots, least_of, lots_apart, parts_of
 from talkmeans.walks import goes_round, shortest_ring
 from talkmeans.ways import meet
 
@@ -72,3 +72,14 @@ def names_ahead(book, name):
 def rings_of(book):
     """All sets of names that are just the talks of some ring."""
     return tuple([names for names in parts_of(sorted(book.names)) if goes_round(book, names)])
+
+
+def least_by_ring(book):
+    """For each set of names that are just the talks of some ring, its least closed lots."""
+    closed = {name: closed_lots(talk) for name, talk in book.talks}
+    found = {}
+    # A ring closes just the lots that each of its talks closes.
+    for names in rings_of(book):
+        common = [lot for lot in closed[names[0]] if all([lot in closed[name] for name in names])]
+        found[names] = least_of(common)
+    return found

@@ -1,8 +1,8 @@
 """Where numbers end, and whose first numbers count there."""
 
-from talkmeans.deciding import agree, rings_of
+from talkmeans.deciding import agree, least_by_ring
 from talkmeans.determinants import minor
-from talkmeans.kinds import checked_numbers, lowest, mean
+from talkmeans.kinds import checked_numbers, lowest, means
 from talkmeans.lots import closed_lots, least_of
 from talkmeans.talks import even_rows, mixed_row
 from talkmeans.walks import lasting, longest, shortest_ring
@@ -24,7 +24,7 @@ def end(talk, numbers):
     counts = end_counts(talk)
     if sum(counts) == 0:
         return None
-    return mean(counts, pairs)
+    return means([counts], pairs)[0]
 
 
 def end_counts(talk):
@@ -45,15 +45,8 @@ def least_lots(talk):
 
 def can_count(book):
     """The lot of all people who are in a least closed lot of some ring."""
-    closed = {name: closed_lots(talk) for name, talk in book.talks}
-    found = set()
-    # A ring closes just the lots that each of its talks closes.
-    for names in rings_of(book):
-        common = [lot for lot in closed[names[0]] if all([lot in closed[name] for name in names])]
-        for least in least_of(common):
-            for person in least:
-                found.add(person)
-    return tuple(sorted(found))
+    counting = [person for lots in least_by_ring(book).values() for lot in lots for person in lot]
+    return tuple(sorted(set(counting)))
 
 
 def settled(book):

@@ -24,6 +24,14 @@ def is_name(value):
     return all([letter in LETTERS for letter in value])
 
 
+def is_number_word(word, most):
+    """Whether a word is a number as Python writes it, of at most so many digits."""
+    # isdigit alone would take digits from beyond 0 to 9, too.
+    if not word.isascii() or not word.isdigit() or len(word) > most:
+        return False
+    return word == "0" or word[0] != "0"
+
+
 def is_sequence(value):
     return isinstance(value, (list, tuple))
 
@@ -95,8 +103,8 @@ def even_tops(pairs):
     return ([pair[0] * (bottom // pair[1]) for pair in pairs], bottom)
 
 
-def mean(weights, pairs):
-    """The mean of pairs, which count by these weights."""
+def means(rows, pairs):
+    """For each row of weights the mean of the pairs, which count by these weights."""
     tops, bottom = even_tops(pairs)
-    total = sum([weight * top for weight, top in zip(weights, tops)])
-    return lowest(total, bottom * sum(weights))
+    totals = [sum([weight * top for weight, top in zip(row, tops)]) for row in rows]
+    return tuple([lowest(total, bottom * sum(row)) for total, row in zip(totals, rows)])

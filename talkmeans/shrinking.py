@@ -2,7 +2,7 @@
 
 from talkmeans.kinds import as_pair, even_tops, is_less, lowest
 from talkmeans.talks import even_rows
-from talkmeans.ways import done
+from talkmeans.ways import done, names_behind
 
 
 def factor(talk):
@@ -47,13 +47,6 @@ def rows_done(book, k):
     for _ in range(k):
         rows = [(row + (name,), talk >> book[name]) for row, talk in rows for name in names_behind(book, row)]
     return rows
-
-
-def names_behind(book, row):
-    """The names of the talks that can come behind a whole row."""
-    if len(row) == 0:
-        return book.names
-    return book.behind(row[-1])
 
 
 def spread(numbers):

@@ -7,8 +7,9 @@ from talkmeans.kinds import (
     common_multiple,
     is_lot,
     is_number,
+    is_number_word,
     is_sequence,
-    mean,
+    means,
 )
 
 LONGEST_WEIGHT = 9
@@ -28,7 +29,7 @@ class Talk:
         """The talk with this text."""
         rows = [part.split(" ") for part in text.split(", ")]
         for at, row in enumerate(rows):
-            if not all([is_weight_word(word) for word in row]):
+            if not all([is_number_word(word, LONGEST_WEIGHT) for word in row]):
                 raise InvalidText(at)
         return cls([[int(word) for word in words] for words in rows])
 
@@ -39,7 +40,7 @@ class Talk:
     def led(self, numbers):
         """The values behind the talk, if these are the numbers ahead of it."""
         pairs = checked_numbers(numbers, len(self.rows))
-        return tuple([mean(row, pairs) for row in self.rows])
+        return means(self.rows, pairs)
 
     def closes(self, lot):
         """Whether nobody of the lot heeds anybody outside of it."""
@@ -110,10 +111,3 @@ def even_rows(rows):
 def mixed_row(weights, rows):
     """The sum of the rows, each times its weight."""
     return [sum([weight * row[j] for weight, row in zip(weights, rows)]) for j in range(len(rows))]
-
-
-def is_weight_word(word):
-    # isdigit alone would take digits from beyond 0 to 9, too.
-    if not word.isascii() or not word.isdigit() or len(word) > LONGEST_WEIGHT:
-        return False
-    return word == "0" or word[0] != "0"

@@ -49,6 +49,13 @@ def meet(first, second):
     return any([person in second for person in first])
 
 
+def names_behind(book, row):
+    """The names of the talks that can come behind a whole row."""
+    if len(row) == 0:
+        return book.names
+    return book.behind(row[-1])
+
+
 def check_row(book, row):
     wrong = first_wrong_name(book, row)
     if wrong is not None:

@@ -6,6 +6,8 @@ import random
 from fractions import Fraction
 
 from talkmeans.books import Book
+from talkmeans.desk import Desk
+from talkmeans.live import Live
 from talkmeans.talks import Talk
 
 PAIRS_TEXT = (
@@ -54,6 +56,11 @@ def firm():
     return five().firm([0, 1, 2, 3, 4])
 
 
+def one_talk():
+    """A book of one talk, which does not agree."""
+    return Book.read("talk a 1 1 0, 1 1 0, 0 0 1\nbehind a a")
+
+
 def full(people):
     """Five talks with weights up to 9, each of which can come behind each."""
     names = ("abcdef", "b", "c", "d", "e")
@@ -82,7 +89,7 @@ def small_books(many, seed):
 
 def told_books():
     """The books of the document and those at the edges."""
-    return [pairs(), free(), led_by(), alone(), nowhere(), firm(), five(), Book.read("talk a 1")]
+    return [pairs(), free(), led_by(), alone(), nowhere(), firm(), five(), one_talk(), Book.read("talk a 1")]
 
 
 def deep(levels):
@@ -100,6 +107,7 @@ def odd_values():
     lists = [[], (), [[]], ((),), [None], (None,), [True], [[1]], [["a"]], ["left"], [("a", "b")]]
     lists += [("p", "q"), (1, 0)]
     own = [book, book["left"], [book], (book["left"],), [("a", book)], [[book["left"]]], ("a", book["left"])]
+    own += [Live(book, [0, 6, 9]), Desk(), [Live(book, [0, 6, 9])], (Desk(), "left")]
     return plain + lists + own + [deep(8)]
 
 
@@ -156,7 +164,7 @@ def raising(case, error, **kept):
 
 def snapshot(thing):
     """All that a thing holds, so that it can be seen whether it changes."""
-    if isinstance(thing, (Book, Talk)):
+    if isinstance(thing, (Book, Talk, Live, Desk)):
         return (type(thing).__name__, snapshot(vars(thing)))
     if isinstance(thing, (list, tuple)):
         return (type(thing).__name__, [snapshot(part) for part in thing])

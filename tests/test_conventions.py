@@ -2,14 +2,22 @@
 
 import unittest
 
-from samples import FIVE_TEXT, PAIRS_TEXT, deep, five, full, odd_values, pairs, raising, unchanged
+from samples import (
+    FIVE_TEXT, PAIRS_TEXT, deep, five, full, one_talk, odd_values, pairs, raising, snapshot, unchanged,
+)
 from talkmeans.books import Book
 from talkmeans.deciding import agree, rings_of, split, talks_to_meet
+from talkmeans.desk import Desk
 from talkmeans.ends import can_count, end, how_counts, least_lots, settled, weights
-from talkmeans.errors import InvalidBook, InvalidLot, InvalidNumbers, InvalidRow, InvalidTalk, NoTalk, TalkError
+from talkmeans.errors import (
+    InvalidBook, InvalidCommand, InvalidLot, InvalidNumbers, InvalidRow, InvalidTalk, NoTalk, Refused, TalkError,
+)
+from talkmeans.live import Live
+from talkmeans.mending import adds, stoppers, strikes
 from talkmeans.papers import paper, paper_holds
 from talkmeans.shrinking import factor, slow_row, slowest, spread
 from talkmeans.talks import Talk
+from talkmeans.telling import alike, first_of, swaps, told_back
 from talkmeans.ways import apart, done, is_ring, is_row, led
 
 
@@ -29,6 +37,19 @@ class Kinds(unittest.TestCase):
         with self.assertRaises(NoTalk) as caught:
             book[True]
         self.assertIs(caught.exception.name, True)
+        live = Live(book, [0, 1, 2])
+        with raising(self, InvalidNumbers, at=2):
+            Live(book, [0, 1, True])
+        with raising(self, InvalidLot):
+            live.firm([True])
+        with raising(self, NoTalk, name=False):
+            live.do(False)
+        with raising(self, Refused, at=1):
+            live.several(["left", True])
+        with raising(self, InvalidNumbers, at=0):
+            told_back(book["left"], [True, 0, 0])
+        with raising(self, InvalidCommand):
+            Desk().say(True)
 
     def test_names(self):
         talk = Talk([[1]])
@@ -71,8 +92,20 @@ class Kinds(unittest.TestCase):
         self.assertIs(caught.exception.name, value)
         self.assertIs(is_row(pairs(), value), False)
         self.assertIs(paper_holds(pairs(), value), False)
-        with raising(self, InvalidNumbers, at=0):
-            end(pairs()["left"], value)
+        live = Live(pairs(), [0, 1, 2])
+        calls = [lambda: end(pairs()["left"], value), lambda: told_back(pairs()["left"], value),
+                 lambda: first_of(pairs(), [], value), lambda: Live(pairs(), value)]
+        for call in calls:
+            with raising(self, InvalidNumbers, at=0):
+                call()
+        with raising(self, InvalidLot):
+            live.firm(value)
+        with raising(self, NoTalk, name=value):
+            live.do(value)
+        with raising(self, Refused, at=0):
+            live.several([value])
+        with raising(self, InvalidCommand):
+            Desk().say(value)
 
     def test_returned_values_are_in_lowest_terms(self):
         talk = Talk([[2, 2], [4, 4]])
@@ -106,6 +139,15 @@ class NothingChanges(unittest.TestCase):
             lambda value: paper_holds(book, (value,)),
             lambda value: Book(book.talks, value),
             lambda value: Book([("a", talk), value]),
+            lambda value: told_back(talk, value),
+            lambda value: told_back(talk, [0, 1, value]),
+            lambda value: first_of(book, value, [1, 2, 3]),
+            lambda value: first_of(book, ["left"], value),
+            lambda value: Live(book, value),
+            lambda value: Live(book, [0, 1, 2]).do(value),
+            lambda value: Live(book, [0, 1, 2]).several(["left", value]),
+            lambda value: Live(book, [0, 1, 2]).firm(value),
+            lambda value: Desk().say(value),
         ]
         for value in odd_values():
             for call in calls:
@@ -129,10 +171,19 @@ class NothingChanges(unittest.TestCase):
             ended = [weights(book["b"]), end(book["b"], behind[0]), least_lots(book["c"]), can_count(book)]
             ended += [settled(book), how_counts(book, 3), paper_holds(book, ())]
             rows = [done(book, row), behind, apart(book, row), str(book), book.firm([1]), book.behind("c")]
-            return rows + decided + shrunk + ended
+            mended = [strikes(book), adds(book), adds(one_talk()), stoppers(book), swaps(book), alike(book, full(5))]
+            back = [told_back(book["b"], behind[1]), first_of(book, ["b", "c"], behind[0])]
+            return rows + decided + shrunk + ended + mended + back
 
         first = results()
         book.without("a").with_step("b", "b").heeding("b", 0, 4)
+        live, desk = Live(book, [1, 2, 3, 4, 5]), Desk()
+        desk.say("book " + str(book).replace("\n", " ; "))
+        desk.say("people 5 4 3 2 1")
+        for one in (live, desk.live):
+            one.several(row)
+            one.within(lambda inner: (inner.firm([0]), inner.undo(), inner.undo()))
+            one.firm([3])
         self.assertEqual(results(), first)
         self.assertEqual(str(book), FIVE_TEXT)
 
@@ -141,7 +192,28 @@ class NothingChanges(unittest.TestCase):
         led(pairs(), row, numbers)
         pairs().firm(lot)
         pairs()["left"].closes(lot)
+        live = Live(pairs(), numbers)
+        live.several(row)
+        live.firm(lot)
+        told_back(pairs()["left"], numbers)
+        first_of(pairs(), row, numbers)
         self.assertEqual((row, numbers, lot), (["left", "right"], [1, (4, 2), 3], [2, 0]))
+
+    def test_what_is_not_a_live_talk_or_a_desk_stays_beside_them(self):
+        book, other = pairs(), pairs().with_step("left", "left")
+        live, desk = Live(book, [0, 6, 9]), Desk()
+        desk.say("book " + PAIRS_TEXT.replace("\n", " ; "))
+        desk.say("people 0 6 9")
+        beside = Live(book, [0, 6, 9])
+        with unchanged(self, book, other, beside):
+            for one in (live, desk.live):
+                one.do("left")
+                one.change(other)
+                one.several(["left", "left"])
+                one.firm([2])
+                one.undo()
+        self.assertEqual(snapshot(desk.live), snapshot(live))
+        self.assertEqual(desk.book, book)
 
 
 class Limits(unittest.TestCase):
@@ -161,6 +233,14 @@ class Limits(unittest.TestCase):
         self.assertEqual((slowest(book, 4), len(slow_row(book, 4)), len(rings_of(book))), ((0, 1), 4, 31))
         self.assertEqual(settled(book), weights(talk))
         self.assertEqual((can_count(book), how_counts(book, 4)), ((0, 1, 2, 3, 4), "always"))
+        two = tuple((i, j) for i in range(5) for j in range(i + 1, 5))
+        self.assertEqual((strikes(book), adds(book), stoppers(book)), (((),), (), two))
+        self.assertEqual(swaps(book), tuple((p, q) for p in sorted(names) for q in sorted(names) if p < q))
+        self.assertIs(told_back(talk, [(top, bottom)] * 5), None)
+        self.assertIs(alike(book, book), True)
+        live = Live(book, [(top, bottom)] * 5)
+        self.assertEqual([live.several(row) for _ in range(60)], [((0, 1),) * 40] * 60)
+        self.assertEqual((len(live), len(live.row), live.numbers), (60, 2400, ((top, bottom),) * 5))
 
     def test_somewhat_beyond_the_limits(self):
         people = 7
@@ -181,6 +261,12 @@ class Limits(unittest.TestCase):
         harmless = Book(firm.talks, [("a", "b"), ("a", "c"), ("b", "c"), ("f", "g")])
         self.assertGreater(len(paper(harmless)), 600)
         self.assertIs(paper_holds(harmless, paper(harmless)), True)
+        self.assertEqual((strikes(firm), adds(firm), stoppers(firm)), ((("a",),), (), ((),)))
+        self.assertEqual(stoppers(book), tuple((i, j) for i in range(people) for j in range(i + 1, people)))
+        self.assertEqual((len(swaps(firm)), alike(firm, book)), (21, False))
+        live = Live(book, [10**12 + i for i in range(people)])
+        self.assertEqual([live.do("a") for _ in range(80)][-1], live.several([]) or spread(live.numbers))
+        self.assertEqual(len(live), 81)
 
     def test_what_was_returned_may_be_passed_on(self):
         book = five()
@@ -195,6 +281,13 @@ class Limits(unittest.TestCase):
         self.assertEqual(end(talk, values), end(talk, talk.led(values)))
         self.assertEqual((settled(large), how_counts(large, 0)), (weights(talk), "always"))
         self.assertEqual(slowest(large, 2), factor(done(large, slow_row(large, 2))))
+        self.assertEqual((strikes(large), adds(large), swaps(large)), (((),), (), (("a", "b"),)))
+        self.assertIs(alike(large, large), True)
+        self.assertEqual(Live(large, values).several(["b", "a"])[-1], spread(led(large, ["b", "a"], values)[-1]))
+        regular = done(full(3), ["c", "e", "d", "c"] * 10)
+        behind = regular.led(values[:3])
+        self.assertEqual(told_back(regular, behind), values[:3])
+        self.assertEqual(first_of(full(3), ["c", "e", "d", "c"] * 10, behind), values[:3])
         self.assertEqual(spread(weights(done(full(5), ["b"] * 40))), spread(weights(full(5)["b"])))
 
 

@@ -4,10 +4,12 @@ import ast
 import doctest
 import inspect
 import pathlib
+import subprocess
+import sys
 import unittest
 import warnings
 
-from talkmeans import books, deciding, ends, errors, papers, shrinking, talks, ways
+from talkmeans import books, deciding, desk, ends, errors, live, mending, papers, shrinking, talks, telling, ways
 
 ROOT = pathlib.Path(__file__).resolve().parent.parent
 FILES = sorted((ROOT / "talkmeans").rglob("*.py"))
@@ -26,6 +28,11 @@ FUNCTIONS = {
     ends: {
         "weights": ["talk"], "end": ["talk", "numbers"], "least_lots": ["talk"],
         "can_count": ["book"], "settled": ["book"], "how_counts": ["book", "i"],
+    },
+    mending: {"strikes": ["book"], "adds": ["book"], "stoppers": ["book"]},
+    telling: {
+        "told_back": ["talk", "numbers"], "first_of": ["book", "row", "numbers"],
+        "swaps": ["book"], "alike": ["p", "q"],
     },
 }
 CLASSES = {
@@ -48,6 +55,13 @@ CLASSES = {
             "__getitem__": ["at"], "__add__": ["other"], "__eq__": ["other"], "__str__": [],
         },
     },
+    live: {
+        "Live": {
+            "__init__": ["book", "numbers"], "do": ["name"], "several": ["names"], "change": ["book"], "firm": ["lot"],
+            "undo": [], "within": ["work"], "__len__": [],
+        },
+    },
+    desk: {"Desk": {"__init__": [], "say": ["command"]}},
 }
 
 
@@ -85,6 +99,21 @@ class Interface(unittest.TestCase):
         self.assertIsInstance(vars(books.Book)["names"], property)
         self.assertIsInstance(vars(books.Book)["people"], property)
         self.assertEqual(inspect.signature(books.Book).parameters["steps"].default, ())
+
+    def test_attributes(self):
+        talk = talks.Talk([[1]])
+        book = books.Book([("a", talk)])
+        told = [
+            (talk, ["rows"]), (book, ["talks", "steps"]), (live.Live(book, [1]), ["book", "row", "numbers"]),
+            (desk.Desk(), ["book", "live"]),
+        ]
+        for thing, names in told:
+            self.assertLessEqual(set(names), set(vars(thing)))
+
+    def test_each_file_is_imported_alone(self):
+        for file in FILES:
+            name = "talkmeans" if file.stem == "__init__" else f"talkmeans.{file.stem}"
+            subprocess.run([sys.executable, "-c", f"import {name}"], cwd=ROOT, check=True)
 
     def test_package_file_is_empty_but_for_a_docstring(self):
         tree = ast.parse((ROOT / "talkmeans" / "__init__.py").read_text())
